@@ -100,5 +100,5 @@ def joined_diffs(old, middle, new, first, second):
     check_texts(old, middle, new)
     check_diff(old, middle, first)
     check_diff(middle, new, second)
-    onward = {j: k for j, k in second}
-    return tuple([(i, onward[j]) for i, j in first if j in onward])
+    partners = {j: k for j, k in second}
+    return tuple([(i, partners[j]) for i, j in first if j in partners])

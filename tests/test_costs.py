@@ -46,7 +46,9 @@ class CostsTest(unittest.TestCase):
             self.refused("coming", value, coming=value, some=5)
 
     def test_some_refused(self):
-        for value in [(), [], [("a", (1, 1))], "a", 0, False, True, {"a"}, Liar(), Grudge(), frozenset(), ("a", (1, 1))]:
+        for value in [
+            (), [], [("a", (1, 1))], "a", 0, False, True, {"a"}, Liar(), Grudge(), frozenset(), ("a", (1, 1)),
+        ]:
             self.refused("some", value, 1, 1, value)
             self.refused("some", value, some=value)
 

@@ -1,0 +1,87 @@
+import importlib
+import inspect
+import unittest
+
+FUNCTIONS = {
+    "texts": {
+        "is_line": "value", "is_text": "value", "all_pairs": "old new", "common_ends": "old new",
+    },
+    "diffs": {
+        "is_diff": "old new value", "cost_of": "old new diff costs", "blocks_of": "old new diff",
+        "gone_lines": "old new diff", "come_lines": "old new diff", "kept_lines": "old new diff",
+        "partner_of": "old new diff i", "turned_about": "old new diff", "turned_over": "old new diff",
+        "joined_diffs": "old middle new first second",
+    },
+    "scripts": {
+        "is_script": "value", "script_of": "old new diff", "diff_of": "entries", "texts_of": "entries",
+        "is_plain": "entries", "turned_script": "entries", "applied": "old entries", "played_entries": "old entries",
+    },
+    "tables": {"least_cost": "old new costs"},
+    "leastpapers": {
+        "least_paper": "old new costs", "is_least_paper": "old new costs value",
+        "beyond_least": "old new costs statement", "is_sure_statement": "old new costs statement",
+        "statement_paper": "old new costs statement", "is_statement_paper": "old new costs statement value",
+    },
+}
+CLASSES = {
+    ("costs", "Costs", "going=1 coming=1 some=None"): {
+        "going": "self line", "coming": "self line", "some": "self", "turned_about": "self", "plain": None,
+        "__contains__": "", "__len__": "", "__eq__": "", "__repr__": "",
+    },
+    ("tables", "Tables", "old new costs"): {
+        "total": None, "begin_table": None, "end_table": None, "onward": "self place", "slack": "self one other",
+        "diff": "self", "__contains__": "", "__eq__": "", "is_begin": "old new costs value",
+        "is_end": "old new costs value",
+    },
+    ("webs", "Web", "old new costs"): {
+        "old": None, "new": None, "costs": None, "places": "self", "steps": "self place", "is_way": "self value",
+        "ways": "self", "first_way": "self", "last_way": "self", "cuts": "self", "__contains__": "", "__eq__": "",
+    },
+    ("faces", "Faces", "web"): {
+        "blank": "self", "choices": "self", "above": "self step", "below": "self step",
+        "directly_ahead": "self face", "__len__": "", "__iter__": "",
+    },
+}
+GENERATORS = {("scripts", "played_entries"), ("tables", "Tables.onward"), ("webs", "Web.ways")}
+
+
+def parameters(call):
+    """The parameters of a call as a string, all of them by position or by name."""
+    told = inspect.signature(call).parameters.values()
+    assert all(one.kind is one.POSITIONAL_OR_KEYWORD for one in told)
+    return " ".join(str(one) for one in told)
+
+
+class InterfaceTest(unittest.TestCase):
+    def test_functions(self):
+        for file, functions in FUNCTIONS.items():
+            module = importlib.import_module(f"alldiffs.{file}")
+            for name, told in functions.items():
+                function = getattr(module, name)
+                self.assertEqual(module.__name__, function.__module__)
+                self.assertEqual(told, parameters(function), name)
+                self.assertIs((file, name) in GENERATORS, inspect.isgeneratorfunction(function))
+
+    def test_classes(self):
+        for (file, name, told), methods in CLASSES.items():
+            module = importlib.import_module(f"alldiffs.{file}")
+            made = getattr(module, name)
+            self.assertEqual((module.__name__, (object,)), (made.__module__, made.__bases__))
+            self.assertEqual(told, parameters(made))
+            for method, names in methods.items():
+                self.check_method(file, made, method, names)
+
+    def check_method(self, file, made, method, names):
+        found = vars(made)[method]
+        if names is None:
+            self.assertIsInstance(found, property)
+        elif names:
+            self.assertEqual(names, parameters(getattr(made, method)))
+            self.assertIs(isinstance(found, staticmethod), not names.startswith("self"))
+            self.assertIs(
+                (file, f"{made.__name__}.{method}") in GENERATORS, inspect.isgeneratorfunction(getattr(made, method))
+            )
+
+
+if __name__ == "__main__":
+    unittest.main()
