@@ -37,6 +37,26 @@ def is_blank(face):
     return not any([is_pair_step(step) for step in side_steps(upper) + side_steps(lower)])
 
 
+def beside(side, numbers):
+    """The sorted list of the numbers that a dict tells for the steps of a side."""
+    return sorted(set([numbers[step] for step in side_steps(side) if step in numbers]))
+
+
+def reached_from(starts, further):
+    """The sorted list of these numbers and of all to which further leads from them.
+
+    further tells for each number, as its position, the numbers that are one further.
+    """
+    reached = {}
+    waiting = list(starts)
+    while waiting:
+        number = waiting.pop()
+        if number not in reached:
+            reached[number] = True
+            waiting.extend(further[number])
+    return sorted(reached)
+
+
 def is_side_shape(value):
     """Whether any value is a tuple of tuples of two INTEGERS, as sides are."""
     return isinstance(value, tuple) and all([is_spot(place) for place in value])
@@ -54,6 +74,8 @@ class Faces:
         self._numbers = {face: number for number, face in enumerate(faces)}
         self._above = {step: number for number, (_, lower) in enumerate(faces) for step in side_steps(lower)}
         self._below = {step: number for number, (upper, _) in enumerate(faces) for step in side_steps(upper)}
+        self._ahead = [beside(upper, self._above) for upper, _ in faces]
+        self._behind = [beside(lower, self._below) for _, lower in faces]
 
     def __len__(self):
         return len(self._faces)
@@ -89,5 +111,20 @@ class Faces:
             raise InvalidFace(face)
         if face not in self._numbers:
             raise InvalidFace(face)
-        numbers = [self._above[step] for step in side_steps(face[0]) if step in self._above]
-        return [self._faces[number] for number in sorted(set(numbers))]
+        return [self._faces[number] for number in self._ahead[self._numbers[face]]]
+
+    def number_above(self, step):
+        """The number, among all faces, of the face above a step of the web, None at the border."""
+        return self._above.get(step)
+
+    def number_below(self, step):
+        """The number, among all faces, of the face below a step of the web, None at the border."""
+        return self._below.get(step)
+
+    def rows_ahead(self):
+        """For each face the list of the numbers of those directly ahead of it."""
+        return [list(row) for row in self._ahead]
+
+    def rows_behind(self):
+        """For each face the list of the numbers of those that it is directly ahead of."""
+        return [list(row) for row in self._behind]

@@ -22,6 +22,12 @@ FUNCTIONS = {
         "beyond_least": "old new costs statement", "is_sure_statement": "old new costs statement",
         "statement_paper": "old new costs statement", "is_statement_paper": "old new costs statement value",
     },
+    "counting": {"order_count": "old new diff"},
+    "answers": {"is_answer": "readings value", "value_of": "readings reading answer"},
+    "measures": {
+        "price_of": "readings answer choice", "prices_of": "readings answer", "greatest_value": "readings answer",
+        "least_value": "readings answer", "is_extreme": "readings answer number value * least=False",
+    },
 }
 CLASSES = {
     ("costs", "Costs", "going=1 coming=1 some=None"): {
@@ -41,15 +47,35 @@ CLASSES = {
         "blank": "self", "choices": "self", "above": "self step", "below": "self step",
         "directly_ahead": "self face", "__len__": "", "__iter__": "",
     },
+    ("choices", "Choices", "old new costs"): {
+        "of": "web", "web": None, "face": "self choice", "begin": "self choice", "end": "self choice",
+        "pairs": "self choice", "ahead": "self choice", "behind": "self choice", "above": "self step",
+        "below": "self step", "is_closed": "self value", "__len__": "", "__eq__": "",
+    },
+    ("readings", "Readings", "old new costs"): {
+        "of": "known", "old": None, "new": None, "costs": None, "known": None, "free": "self", "held": "self",
+        "first": "self", "last": "self", "diff_of": "self reading", "reading_of": "self diff", "flips": "self reading",
+        "made": "self reading choice", "unmade": "self reading choice", "both": "self one other",
+        "either": "self one other", "path": "self one other", "settled": "self choice made",
+        "settled_as": "self *pairs", "count": "self", "in_order": "self", "nth": "self number",
+        "position": "self reading", "nodes": "self", "following": "self node", "leading": "self node",
+        "places": "self", "steps": "self place", "__contains__": "", "__eq__": "", "__repr__": "",
+    },
 }
-GENERATORS = {("scripts", "played_entries"), ("tables", "Tables.onward"), ("webs", "Web.ways")}
+GENERATORS = {
+    ("scripts", "played_entries"), ("tables", "Tables.onward"), ("webs", "Web.ways"), ("readings", "Readings.in_order"),
+}
+STATIC_METHODS = {("tables", "Tables.is_begin"), ("tables", "Tables.is_end")}
+CLASS_METHODS = {("choices", "Choices.of"), ("readings", "Readings.of")}
 
 
 def parameters(call):
-    """The parameters of a call as a string, all of them by position or by name."""
-    told = inspect.signature(call).parameters.values()
-    assert all(one.kind is one.POSITIONAL_OR_KEYWORD for one in told)
-    return " ".join(str(one) for one in told)
+    """The parameters of a call as a string; those behind a bare star are passed by name only."""
+    told = list(inspect.signature(call).parameters.values())
+    plain = [str(one) for one in told if one.kind in (one.POSITIONAL_OR_KEYWORD, one.VAR_POSITIONAL)]
+    named = [str(one) for one in told if one.kind is one.KEYWORD_ONLY]
+    assert len(plain) + len(named) == len(told)
+    return " ".join(plain + ["*"] * bool(named) + named)
 
 
 class InterfaceTest(unittest.TestCase):
@@ -77,10 +103,10 @@ class InterfaceTest(unittest.TestCase):
             self.assertIsInstance(found, property)
         elif names:
             self.assertEqual(names, parameters(getattr(made, method)))
-            self.assertIs(isinstance(found, staticmethod), not names.startswith("self"))
-            self.assertIs(
-                (file, f"{made.__name__}.{method}") in GENERATORS, inspect.isgeneratorfunction(getattr(made, method))
-            )
+            at = (file, f"{made.__name__}.{method}")
+            self.assertIs(at in STATIC_METHODS, isinstance(found, staticmethod))
+            self.assertIs(at in CLASS_METHODS, isinstance(found, classmethod))
+            self.assertIs(at in GENERATORS, inspect.isgeneratorfunction(getattr(made, method)))
 
 
 if __name__ == "__main__":
