@@ -28,6 +28,22 @@ FUNCTIONS = {
         "price_of": "readings answer choice", "prices_of": "readings answer", "greatest_value": "readings answer",
         "least_value": "readings answer", "is_extreme": "readings answer number value * least=False",
     },
+    "cores": {
+        "core_of": "readings answer", "is_sure": "readings answer", "sure_value": "readings answer",
+        "is_enough": "readings answer *choices", "parted_readings": "readings answer choice",
+        "is_parted": "readings answer choice value", "fates_of": "readings answer",
+        "possible_values": "readings answer",
+    },
+    "settling": {"looked_ahead": "settling pairs"},
+    "knots": {
+        "covered_by": "block", "knots_of": "base one two diff_one diff_two", "bounds_of": "knot",
+        "kind_of": "knot one two",
+    },
+    "rows": {
+        "merged": "base one two diff_one diff_two", "token_origins": "base one two diff_one diff_two",
+        "line_fates": "base one two diff_one diff_two", "cost_together": "base one two diff_one diff_two costs",
+        "is_row": "value", "clashes": "row", "text_of": "row", "swapped": "row", "resolved": "row *sides",
+    },
 }
 CLASSES = {
     ("costs", "Costs", "going=1 coming=1 some=None"): {
@@ -61,12 +77,18 @@ CLASSES = {
         "position": "self reading", "nodes": "self", "following": "self node", "leading": "self node",
         "places": "self", "steps": "self place", "__contains__": "", "__eq__": "", "__repr__": "",
     },
+    ("settling", "Settling", "readings answer"): {
+        "about": "readings *answers", "left": None, "answer": None, "core": "self", "is_sure": "self",
+        "outcome": "self", "settle": "self choice * made=True", "undo": "self", "log": "self", "questions": "self",
+        "__enter__": "", "__exit__": "", "__contains__": "", "__repr__": "",
+    },
 }
 GENERATORS = {
     ("scripts", "played_entries"), ("tables", "Tables.onward"), ("webs", "Web.ways"), ("readings", "Readings.in_order"),
+    ("cores", "possible_values"), ("settling", "Settling.questions"),
 }
 STATIC_METHODS = {("tables", "Tables.is_begin"), ("tables", "Tables.is_end")}
-CLASS_METHODS = {("choices", "Choices.of"), ("readings", "Readings.of")}
+CLASS_METHODS = {("choices", "Choices.of"), ("readings", "Readings.of"), ("settling", "Settling.about")}
 
 
 def parameters(call):
