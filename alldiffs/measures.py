@@ -23,14 +23,19 @@ def weight_of_side(answer, side):
 def price_of(readings, answer, choice):
     """The PRICE of a choice, settled or not, for a measure."""
     check_answer(readings, answer, "measure")
-    upper, lower = readings.known.face(choice)
+    return price_of_face(answer, readings.known.face(choice))
+
+
+def price_of_face(answer, face):
+    """The sum of the weights of the lower side of a face, less that of its upper side."""
+    upper, lower = face
     return weight_of_side(answer, lower) - weight_of_side(answer, upper)
 
 
 def prices_of(readings, answer):
     """A dict from the free choices to their PRICES."""
     check_answer(readings, answer, "measure")
-    return {choice: price_of(readings, answer, choice) for choice in readings.free()}
+    return {choice: price_of_face(answer, readings.known.face(choice)) for choice in readings.free()}
 
 
 def greatest_value(readings, answer):

@@ -35,8 +35,7 @@ def tokens_with_origins(base, one, two, diff_one, diff_two):
     fates = line_fates(base, one, two, diff_one, diff_two)
     parts = [(2 * i - 1, [(base[i - 1], ("base", i))]) for i, fate in enumerate(fates, start=1) if fate == "stands"]
     for knot in knots:
-        told = tokens_of_knot(knot, base, one, two, diff_one, diff_two)
-        parts.append((stretch_of(knot)[0], told))
+        parts.append((stretch_of(knot)[0], tokens_of_knot(knot, base, one, two, diff_one, diff_two)))
     return [token for _, told in sorted(parts, key=lambda part: part[0]) for token in told]
 
 
@@ -87,8 +86,8 @@ def cost_together(base, one, two, diff_one, diff_two, costs):
     gone = sorted(set(gone_lines(base, one, diff_one) + gone_lines(base, two, diff_two)))
     come = [one[j - 1] for j in come_lines(base, one, diff_one)] + [two[k - 1] for k in come_lines(base, two, diff_two)]
     knots = knots_of(base, one, two, diff_one, diff_two)
-    twice = [line for ones, _ in [knot for knot in knots if kind_of(knot, one, two) == "alike"]
-             for line in lines_come(one, ones[0])]
+    alike = [ones[0] for ones, twos in knots if kind_of((ones, twos), one, two) == "alike"]
+    twice = [line for block in alike for line in lines_come(one, block)]
     going = sum([costs.going(base[i - 1]) for i in gone])
     return going + sum([costs.coming(line) for line in come]) - sum([costs.coming(line) for line in twice])
 
