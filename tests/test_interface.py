@@ -44,6 +44,12 @@ FUNCTIONS = {
         "line_fates": "base one two diff_one diff_two", "cost_together": "base one two diff_one diff_two costs",
         "is_row": "value", "clashes": "row", "text_of": "row", "swapped": "row", "resolved": "row *sides",
     },
+    "walking": {"beginning": "merge", "steps_from": "merge state"},
+    "writtenpapers": {"written_paper": "merge", "is_written_paper": "merge row value"},
+    "common": {
+        "numbers_of": "merge pick", "common_numbers": "merge", "common_pick": "merge", "common_rows": "merge * most=50",
+    },
+    "commonpapers": {"common_paper": "merge", "is_common_paper": "merge bound value"},
 }
 CLASSES = {
     ("costs", "Costs", "going=1 coming=1 some=None"): {
@@ -81,6 +87,12 @@ CLASSES = {
         "about": "readings *answers", "left": None, "answer": None, "core": "self", "is_sure": "self",
         "outcome": "self", "settle": "self choice * made=True", "undo": "self", "log": "self", "questions": "self",
         "__enter__": "", "__exit__": "", "__contains__": "", "__repr__": "",
+    },
+    ("mergecores", "Merge", "base one two costs"): {
+        "base": None, "costs": None, "version": "self number", "readings": "self number", "count": "self",
+        "row_of": "self pick", "core": "self", "is_sure": "self", "row": "self", "parted": "self choice",
+        "is_parted": "self choice value", "settled": "self choice made", "held": "self", "swapped": "self",
+        "__eq__": "", "__repr__": "",
     },
 }
 GENERATORS = {
