@@ -29,8 +29,12 @@ def told_by_crossing(answer, step):
 
 
 def core_of_line(readings, answer):
+    """The choices that an ANSWER about a line depends on."""
+    return core_of_crossings(readings, answer, crossings_of(readings, answer))
+
+
+def core_of_crossings(readings, answer, crossings):
     """The choices between neighbouring crossings that an ANSWER about a line is unlike for."""
-    crossings = crossings_of(readings, answer)
     return [
         readings.known.below(step) for step, other in zip(crossings, crossings[1:])
         if told_by_crossing(answer, step) != told_by_crossing(answer, other)

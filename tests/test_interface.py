@@ -50,6 +50,12 @@ FUNCTIONS = {
         "numbers_of": "merge pick", "common_numbers": "merge", "common_pick": "merge", "common_rows": "merge * most=50",
     },
     "commonpapers": {"common_paper": "merge", "is_common_paper": "merge bound value"},
+    "difftexts": {
+        "diff_form": "old new diff", "read_diff_form": "text", "row_form": "row", "read_row_form": "text",
+        "pick_form": "pick", "read_pick_form": "text", "versions_form": "versions", "read_versions_form": "text",
+    },
+    "books": {"tried": "book deeds * keep=False"},
+    "judge": {"is_claim": "value", "is_paper": "claim value", "paper_of": "claim"},
 }
 CLASSES = {
     ("costs", "Costs", "going=1 coming=1 some=None"): {
@@ -94,13 +100,29 @@ CLASSES = {
         "is_parted": "self choice value", "settled": "self choice made", "held": "self", "swapped": "self",
         "__eq__": "", "__repr__": "",
     },
+    ("histories", "History", "versions costs"): {
+        "of": "*texts * costs", "texts": "self", "readings": "self k", "count": "self", "origins": "self pick version",
+        "core": "self version line", "is_sure": "self version line", "possible": "self version line",
+        "parted": "self version line choice", "blame": "self version", "settled": "self k choice made",
+        "undone": "self k", "carried": "self k text", "__len__": "", "__eq__": "", "__repr__": "",
+    },
+    ("books", "Book", "costs=None"): {
+        "put": "self name lines", "drop": "self name", "undo": "self", "rates": None, "names": "self",
+        "readings": "self old new", "merge": "self base one two", "trial": "self", "__getitem__": "", "__contains__": "",
+        "__len__": "", "__eq__": "",
+    },
+    ("desk", "Desk", "book=None"): {"book": "self", "say": "self row", "play": "self *rows"},
 }
 GENERATORS = {
     ("scripts", "played_entries"), ("tables", "Tables.onward"), ("webs", "Web.ways"), ("readings", "Readings.in_order"),
-    ("cores", "possible_values"), ("settling", "Settling.questions"),
+    ("cores", "possible_values"), ("settling", "Settling.questions"), ("histories", "History.blame"),
+    ("desk", "Desk.play"),
 }
 STATIC_METHODS = {("tables", "Tables.is_begin"), ("tables", "Tables.is_end")}
-CLASS_METHODS = {("choices", "Choices.of"), ("readings", "Readings.of"), ("settling", "Settling.about")}
+CLASS_METHODS = {
+    ("choices", "Choices.of"), ("readings", "Readings.of"), ("settling", "Settling.about"),
+    ("histories", "History.of"),
+}
 
 
 def parameters(call):
